@@ -1,6 +1,9 @@
 package journal
 
-import "shipwright/api"
+import (
+	"shipwright/api"
+	"shipwright/number"
+)
 
 // Where a block's parts begin: the life, how many bytes are the record's, whether it is the last one, a byte 0, these bytes, and the life again.
 const (
@@ -21,13 +24,13 @@ const (
 type block [api.Block]byte
 
 // head is the life at a block's beginning, that a crash lets last ahead of all else.
-func (b block) head() uint64 { return number(b[headAt:manyAt]) }
+func (b block) head() uint64 { return number.Read(b[headAt:manyAt]) }
 
 // tail is the life at a block's end, that lasts only if all else does.
-func (b block) tail() uint64 { return number(b[tailAt:]) }
+func (b block) tail() uint64 { return number.Read(b[tailAt:]) }
 
 // many is how many of a block's bytes are its record's.
-func (b block) many() int { return int(number(b[manyAt:lastAt])) }
+func (b block) many() int { return int(number.Read(b[manyAt:lastAt])) }
 
 // last tells whether a block is its record's last one.
 func (b block) last() bool { return b[lastAt] == 1 }
@@ -65,30 +68,13 @@ func blocksOf(record []byte, life int64) func() block {
 		text := rest[:min(piece, len(rest))]
 		rest = rest[len(text):]
 		var b block
-		lay(b[headAt:manyAt], uint64(life))
-		lay(b[manyAt:lastAt], uint64(len(text)))
+		number.Lay(b[headAt:manyAt], uint64(life))
+		number.Lay(b[manyAt:lastAt], uint64(len(text)))
 		if len(rest) == 0 {
 			b[lastAt] = 1
 		}
 		copy(b[textAt:tailAt], text)
-		lay(b[tailAt:], uint64(life))
+		number.Lay(b[tailAt:], uint64(life))
 		return b
-	}
-}
-
-// number is the number that bytes are, the highest one first.
-func number(b []byte) uint64 {
-	n := uint64(0)
-	for _, x := range b {
-		n = n<<8 | uint64(x)
-	}
-	return n
-}
-
-// lay writes a number over bytes, the highest one first.
-func lay(b []byte, n uint64) {
-	for i := len(b) - 1; i >= 0; i-- {
-		b[i] = byte(n)
-		n >>= 8
 	}
 }
